@@ -113,11 +113,17 @@ func (w *world) drop(addrs ...int) {
 	}
 }
 
-// begin and back are done to the store and its space alike.
+// begin, commit and back are done to the store and its space alike.
 func (w *world) begin() {
 	w.Helper()
 	must(w.T, "space.Begin", w.s.Begin())
 	must(w.T, "Begin", w.p.Begin())
+}
+
+func (w *world) commit() {
+	w.Helper()
+	must(w.T, "Commit", w.p.Commit())
+	must(w.T, "space.Commit", w.s.Commit())
 }
 
 func (w *world) back() {

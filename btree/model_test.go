@@ -355,28 +355,29 @@ func (f *forest) do(what string, i, arm int, x *page, refused error, call func(r
 	return true
 }
 
-func (f *forest) set(i, key, val, arm int) {
+// set, delete and swap tell whether the call was not refused.
+func (f *forest) set(i, key, val, arm int) bool {
 	f.Helper()
 	var x *page
 	var refused error = api.ErrKey
 	if key >= 0 && key <= 1<<40 && val >= 1 && val <= 1<<61 {
 		x, refused = f.trees[i].page.set(key, val), nil
 	}
-	f.do("Set", i, arm, x, refused, func(root int) (int, error) { return btree.Set(f.p, root, key, val) })
+	return f.do("Set", i, arm, x, refused, func(root int) (int, error) { return btree.Set(f.p, root, key, val) })
 }
 
-func (f *forest) delete(i, key, arm int) {
+func (f *forest) delete(i, key, arm int) bool {
 	f.Helper()
 	var x *page
 	var refused error = api.ErrMissing
 	if _, is := f.trees[i].page.find(key); is {
 		x, refused = f.trees[i].page.without(key), nil
 	}
-	f.do("Delete", i, arm, x, refused, func(root int) (int, error) { return btree.Delete(f.p, root, key) })
+	return f.do("Delete", i, arm, x, refused, func(root int) (int, error) { return btree.Delete(f.p, root, key) })
 }
 
 // swap swaps a tree, and demands what is noted then.
-func (f *forest) swap(i, arm int, s *swapping) {
+func (f *forest) swap(i, arm int, s *swapping) bool {
 	f.Helper()
 	old := f.trees[i].page
 	became := map[*page]*page{}
@@ -392,7 +393,8 @@ func (f *forest) swap(i, arm int, s *swapping) {
 	want := maps.Clone(s.noted)
 	vals := maps.Clone(s.vals)
 	was := maps.Clone(f.at)
-	if f.do("Swap", i, arm, x, refused, func(root int) (int, error) { return btree.Swap(f.p, root, s.device, s.noted, s.vals) }) {
+	done := f.do("Swap", i, arm, x, refused, func(root int) (int, error) { return btree.Swap(f.p, root, s.device, s.noted, s.vals) })
+	if done {
 		for from, to := range became {
 			want[was[from]] = f.at[to]
 			s.became[from] = to
@@ -401,6 +403,7 @@ func (f *forest) swap(i, arm int, s *swapping) {
 	if !maps.Equal(s.noted, want) || !maps.Equal(s.vals, vals) {
 		f.Fatalf("Swap notes %v, not %v; vals: %v", s.noted, want, s.vals)
 	}
+	return done
 }
 
 // wantReads demands what is told of a tree: at each key that it has, and at those beside them.
@@ -445,14 +448,13 @@ type call struct {
 	key, val int
 }
 
-// does has a call done to a tree.
-func (f *forest) does(i int, c call, arm int) {
+// does has a call done to a tree, and tells whether it was not refused.
+func (f *forest) does(i int, c call, arm int) bool {
 	f.Helper()
 	if c.name == "Set" {
-		f.set(i, c.key, c.val, arm)
-	} else {
-		f.delete(i, c.key, arm)
+		return f.set(i, c.key, c.val, arm)
 	}
+	return f.delete(i, c.key, arm)
 }
 
 // small are trees at which the chapter tells cases apart.

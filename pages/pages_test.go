@@ -690,6 +690,34 @@ func TestP11_1PutWriteFailsBegun(t *testing.T) {
 	wantSame(t, "Back", w.all(), before)
 }
 
+// TestP11_1PutWriteFailsFreeSince puts in vain behind Begin, at an address that was taken ahead of Begin, and was free since.
+func TestP11_1PutWriteFailsFreeSince(t *testing.T) {
+	for _, fresh := range []bool{false, true} {
+		w := made(t, 4)
+		w.put(2, leaf(1))
+		if !fresh {
+			w.s.Settle()
+		}
+		before := w.all()
+		w.begin()
+		must(t, "Scrap", w.p.Scrap(2))
+		w.s.Settle()
+		within := w.tells()
+		w.b.Arm(0)
+		for range 2 {
+			_, err := w.p.Put(leaf(1))
+			wantError(t, "Put", err, broken("write", 2, api.ErrDown))
+			wantSame(t, "Put", w.tells(), within)
+		}
+		w.b.Crash()
+		w.put(2, leaf(2))
+		must(t, "Scrap", w.p.Scrap(2))
+		wantSame(t, "Put and Scrap", w.tells(), within)
+		w.back()
+		wantSame(t, "Back", w.all(), before)
+	}
+}
+
 // TestP11_1BadSector puts a page on a sector that cannot be read: it is written, and known.
 func TestP11_1BadSector(t *testing.T) {
 	w := made(t, 6)

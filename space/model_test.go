@@ -14,8 +14,8 @@ import (
 // outside are numbers that are no device's, and no address.
 var outside = []int{math.MinInt, math.MinInt + 1, math.MinInt32, -api.MaxSectors, -2, -1, api.MaxDevices * api.MaxSectors, api.MaxDevices*api.MaxSectors + 2, math.MaxInt32, 1 << 32, 1<<32 + 2, math.MaxInt - 1, math.MaxInt}
 
-// thing is what an address is that is not free: given back or taken, and whether it was taken since it was last settled.
-type thing struct{ back, fresh bool }
+// thing is what an address is that is not free: given back or taken, whether it was taken since it was last settled, and whether it was taken ahead of the last Begin, and was not free since.
+type thing struct{ back, fresh, old bool }
 
 // model is a space as the chapter's words put it, address by address.
 type model struct {
@@ -176,10 +176,11 @@ func (m *model) give(addr int) api.Code {
 	switch {
 	case !m.isTaken(addr):
 		return api.ErrTaken
-	case x.fresh && !(m.saved != nil && m.saved.isTaken(addr)):
+	case x.fresh && !(m.saved != nil && x.old):
 		delete(m.at, addr)
 	default:
-		m.at[addr] = thing{back: true, fresh: x.fresh}
+		x.back = true
+		m.at[addr] = x
 	}
 	return 0
 }
@@ -192,7 +193,8 @@ func (m *model) settle() int {
 			count++
 			delete(m.at, addr)
 		} else {
-			m.at[addr] = thing{}
+			x.fresh = false
+			m.at[addr] = x
 		}
 	}
 	return count
@@ -205,6 +207,10 @@ func (m *model) endOrBegin(name string) api.Code {
 	}
 	switch name {
 	case "Begin":
+		for addr, x := range m.at {
+			x.old = true
+			m.at[addr] = x
+		}
 		m.saved = &model{list: m.list, at: maps.Clone(m.at)}
 	case "Commit":
 		maps.DeleteFunc(m.at, func(_ int, x thing) bool { return x.back && x.fresh })

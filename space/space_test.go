@@ -706,32 +706,89 @@ func TestP8_3GiveOfNewRoom(t *testing.T) {
 	}
 }
 
-// TestP8_3TakenOnceMore demands the words as they stand, of an address that was taken ahead of Begin, was free meanwhile, and was taken once more: it was taken ahead of Begin, and it is fresh.
+// TestP8_3TakenOnceMore gives an address that was taken ahead of Begin, was free since, and was taken once more: that taking is not one ahead of Begin, so it is free at once. Back has it as it was.
 func TestP8_3TakenOnceMore(t *testing.T) {
+	mark := func(s *space.Space) error { return s.Mark(2) }
+	take := func(s *space.Space) error { _, err := s.Take(); return err }
+	giveAndSettle := func(s *space.Space) error { err := s.Give(2); s.Settle(); return err }
+	settleAndUnmark := func(s *space.Space) error { s.Settle(); return s.Unmark(2) }
 	for _, c := range []struct {
-		name  string
-		ahead func(s *space.Space) error
-		freed func(s *space.Space)
+		name         string
+		ahead, freed func(s *space.Space) error
+		fresh        bool
 	}{
-		{"marked, unmarked", func(s *space.Space) error { return s.Mark(2) }, func(s *space.Space) { s.Unmark(2) }},
-		{"marked, given, settled", func(s *space.Space) error { return s.Mark(2) }, func(s *space.Space) { s.Give(2); s.Settle() }},
-		{"taken, given, settled", func(s *space.Space) error { _, err := s.Take(); return err }, func(s *space.Space) { s.Give(2); s.Settle() }},
-		{"taken, settled, unmarked", func(s *space.Space) error { _, err := s.Take(); return err }, func(s *space.Space) { s.Settle(); s.Unmark(2) }},
+		{"marked, unmarked", mark, func(s *space.Space) error { return s.Unmark(2) }, false},
+		{"marked, given, settled", mark, giveAndSettle, false},
+		{"marked, settled, unmarked", mark, settleAndUnmark, false},
+		{"taken, given, settled", take, giveAndSettle, true},
+		{"taken, settled, unmarked", take, settleAndUnmark, true},
 	} {
-		s := made(t, active(4))
-		must(t, c.name, c.ahead(s))
-		must(t, "Begin", s.Begin())
-		c.freed(s)
-		wantTake(t, s, 2)
-		must(t, "Give", s.Give(2))
-		if s.Used(0) != 1 {
-			t.Errorf("%s: it is free ahead of Commit", c.name)
-		}
-		must(t, "Commit", s.Commit())
-		if s.Used(0) != 0 {
-			t.Errorf("%s: it is not free behind Commit", c.name)
+		for _, end := range []string{"Commit", "Back"} {
+			s := made(t, active(4))
+			must(t, c.name, c.ahead(s))
+			must(t, "Begin", s.Begin())
+			must(t, c.name, c.freed(s))
+			for range 3 {
+				wantTake(t, s, 2)
+				must(t, "Give", s.Give(2))
+				if s.Taken(2) || s.Used(0) != 0 || s.Free() != 2 {
+					t.Fatalf("%s: it is not free at once: Used %d, Free %d", c.name, s.Used(0), s.Free())
+				}
+			}
+			if end == "Commit" {
+				must(t, "Commit", s.Commit())
+				wantTake(t, s, 2, 3)
+				continue
+			}
+			must(t, "Back", s.Back())
+			if !s.Taken(2) || s.Used(0) != 1 {
+				t.Fatalf("%s: Back: Used %d", c.name, s.Used(0))
+			}
+			if err := s.Unmark(2); (err != nil) != c.fresh {
+				t.Fatalf("%s: Unmark behind Back: %v", c.name, err)
+			}
 		}
 	}
+}
+
+// TestP8_3MarkedOnceMore gives an address that was taken ahead of Begin, was free since, and was marked: it is not fresh, so it is given back, and Commit does not free it.
+func TestP8_3MarkedOnceMore(t *testing.T) {
+	s := made(t, active(4))
+	wantTake(t, s, 2)
+	must(t, "Begin", s.Begin())
+	s.Settle()
+	must(t, "Unmark", s.Unmark(2))
+	must(t, "Mark", s.Mark(2))
+	must(t, "Give", s.Give(2))
+	must(t, "Commit", s.Commit())
+	if s.Taken(2) || s.Used(0) != 1 {
+		t.Fatalf("Used: %d, not 1", s.Used(0))
+	}
+	if n := s.Settle(); n != 1 {
+		t.Fatalf("Settle: %d, not 1", n)
+	}
+}
+
+// TestP8_3NeverFreeSince demands that what was taken ahead of Begin, and was not free since, is given back till Commit, whatever else was free since, and whatever was settled ahead of that Begin.
+func TestP8_3NeverFreeSince(t *testing.T) {
+	s := made(t, active(6))
+	must(t, "Begin", s.Begin())
+	s.Settle()
+	must(t, "Commit", s.Commit())
+	s.Settle()
+	wantTake(t, s, 2)
+	must(t, "Mark", s.Mark(3))
+	must(t, "Begin", s.Begin())
+	must(t, "Unmark", s.Unmark(3))
+	wantTake(t, s, 3)
+	must(t, "Give of what was free since", s.Give(3))
+	must(t, "Give of what was not", s.Give(2))
+	if s.Taken(2) || s.Used(0) != 1 || s.Free() != 3 {
+		t.Fatalf("Used %d, Free %d", s.Used(0), s.Free())
+	}
+	wantTake(t, s, 3)
+	must(t, "Commit", s.Commit())
+	wantTake(t, s, 2)
 }
 
 func TestP8_3Settle(t *testing.T) {
