@@ -114,7 +114,7 @@ func wantAsIfNot(t *testing.T, what string, made func() *forest, call func(f *fo
 	}
 }
 
-// TestP12_2RefusedBegun has Set and Delete done between Begin and its end, with any room and with a power that goes at any write, where all that they may take was taken ahead of Begin and was free since.
+// TestP12_2RefusedBegun has Set and Delete done between Begin and its end, with room for none to five pages more and with a power that goes at one of the first writes, or stays, where all that they may take was taken ahead of Begin and was free since.
 func TestP12_2RefusedBegun(t *testing.T) {
 	calls := []call{{"Set", 20, 5}, {"Set", 1, 7}, {"Set", 57, 9}, {"Delete", 10, 0}, {"Delete", 20, 0}, {"Delete", 50, 0}, {"Delete", 3, 0}, {"Set", -1, 5}}
 	for _, way := range freeings() {
