@@ -256,19 +256,11 @@ func TestP22_1None(t *testing.T) {
 	} {
 		w := made(t, 50, 50)
 		must(t, "Create", w.p.Create(1, 9))
+		w.wantInfo()
 		for device := range 2 {
-			w.wantInfoUnless(device > 0)
 			must(t, "lose", lose(w.b, device))
 		}
 		wantCode(t, w.b, api.ErrNone)
-	}
-}
-
-// wantInfoUnless is wantInfo, unless something was lost.
-func (w *world) wantInfoUnless(lost bool) {
-	w.Helper()
-	if !lost {
-		w.wantInfo()
 	}
 }
 

@@ -67,10 +67,15 @@ func (h hand) root(root int) hand {
 	return h.super(root, entries(api.Active, 50, api.Active, 50)...)
 }
 
+// superOf is a superblock.
+func superOf(gen, root int, r roster.Roster) super.Super {
+	return super.Super{Gen: gen, Root: root, Roster: r}
+}
+
 // super lays a superblock on all members that the bank has.
 func (h hand) super(root int, list ...roster.Entry) hand {
 	h.Helper()
-	s := super.Super{Gen: 7, Root: root, Roster: roster.Roster{List: list}}
+	s := superOf(7, root, roster.Roster{List: list})
 	sector, err := s.Bytes()
 	must(h.T, "Bytes", err)
 	for _, device := range s.Roster.Members() {
