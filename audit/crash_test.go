@@ -264,27 +264,3 @@ func TestP22_3Lives(t *testing.T) {
 		})
 	}
 }
-
-// TestP22_3Format lets the power go in a Format: behind it there is no pool, or the new one, or the one that there was.
-func TestP22_3Format(t *testing.T) {
-	for way := range keeps {
-		for n := range 20 {
-			w := made(t, 30, 40)
-			must(t, "Create", w.p.Create(1, 9))
-			w.write(1, 0, 1, 2, 3)
-			must(t, "Flush", w.p.Flush())
-			was := audited(t, w.b)
-			w.b.Arm(n)
-			_, err := pool.Format(w.b)
-			next := numbers(n)
-			crashes(w.b, way, &next)
-			r, wrong := audit.Audit(w.b)
-			switch {
-			case wrong != nil && (err == nil || wrong != error(api.ErrNone)):
-				t.Fatalf("Audit: %v", wrong)
-			case wrong == nil && r.Gen != 1 && (err == nil || r.Gen != was.Gen || r.Mapped != 3):
-				t.Fatalf("Audit: %+v", r)
-			}
-		}
-	}
-}
