@@ -16,7 +16,6 @@ func (p *Pool) commit(change func() error) error {
 			p.manager.Back()
 			return err
 		}
-		p.gen++
 		p.manager.Commit()
 		// The mover gives back what was taken for copies that nobody needs, ahead of settling, so that it is free at once.
 		p.follow()
@@ -30,15 +29,36 @@ func (p *Pool) seal(change func() error) error {
 	if err := change(); err != nil {
 		return err
 	}
+	if err := p.ahead(p.hasRoom); err != nil {
+		return err
+	}
 	root, err := p.manager.Save()
 	if err != nil {
 		return err
 	}
-	r := p.roster()
-	if err := p.bank.Flush(r.Members()...); err != nil {
+	next := super.Super{Gen: p.last.Gen + 1, Root: root, Roster: p.roster()}
+	if err := next.Check(); err != nil {
 		return err
 	}
-	return super.Write(p.bank, super.Super{Gen: p.gen + 1, Root: root, Roster: r})
+	if err := p.count(next); err != nil {
+		return err
+	}
+	p.last = next
+	return nil
+}
+
+// count lets a superblock count, in place of the last one.
+func (p *Pool) count(next super.Super) error {
+	if err := p.ahead(always); err != nil {
+		return err
+	}
+	if err := p.bank.Flush(next.Roster.Members()...); err != nil {
+		return err
+	}
+	if err := p.release(next.Roster); err != nil {
+		return err
+	}
+	return super.Write(p.bank, next)
 }
 
 // follow lets there be a mover just while a member is Draining, and tells the one that stays that something may have been unmapped.

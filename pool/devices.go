@@ -53,6 +53,9 @@ func (p *Pool) Move() (int, error) {
 		if p.mover == nil {
 			return api.ErrIdle
 		}
+		if err := p.ahead(p.moves); err != nil {
+			return err
+		}
 		if did, err = p.mover.Step(); err != nil {
 			return err
 		}

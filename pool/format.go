@@ -10,9 +10,6 @@ import (
 	"portage/super"
 )
 
-// place is a sector for superblocks, with the generation of the one that counts there, 0 if the sector cannot be read.
-type place struct{ device, slot, gen int }
-
 // Format tells a new pool of all of the bank's devices.
 func Format(b *bank.Bank) (*Pool, error) {
 	if b.Down() {
@@ -49,38 +46,56 @@ func actives(sizes []int) (roster.Roster, error) {
 	return r, nil
 }
 
-// replace lets a superblock count in place of all that earlier pools left, though these may be of greater generations. Wherever the power goes, what counts is the newest one that was read, which stands as it was till nothing older is left, or the new one.
+// replace lets a superblock count in place of all that earlier pools left, though these may be of greater generations. Wherever the power goes, what counts is the newest one that was read, which stands as it was till nothing older is left, or the new one. As long as the earlier one does, the new one is just on devices that it has as members, if it can be read there: their next commit takes its place, on others it would stay.
 func replace(b *bank.Bank, s super.Super) error {
-	ahead, behind := around(s, remains(b))
+	all, slot := remains(b), slotOf(s.Gen)
+	ahead, first := begin(b, s, all)
 	if err := wipe(b, ahead); err != nil {
 		return err
 	}
-	if err := super.Write(b, s); err != nil {
+	if err := lay(b, s, first); err != nil {
 		return err
 	}
-	return wipe(b, behind)
+	var beside, behind []place
+	for _, at := range all[len(ahead):] {
+		switch {
+		case at.slot != slot:
+			behind = append(behind, at)
+		case !slices.Contains(first, at.device):
+			beside = append(beside, at)
+		}
+	}
+	if err := wipe(b, slices.Concat(beside, behind)); err != nil {
+		return err
+	}
+	return lay(b, s, without(s.Roster.Members(), first))
 }
 
-// around tells which remains, in their order, are wiped ahead of a superblock's Write, and which behind it. The Write takes the place of all in its own slot. If the newest one is there, and is greater, the Write ends it: then nothing older may be left. Else the newest one outlasts the Write in the other slot, as does what could not be read there and may be newer; or it is of the generation that is written, of which the first device's counts, old or new.
-func around(s super.Super, all []place) (ahead, behind []place) {
-	slot := s.Gen % api.Slots
-	if last := len(all) - 1; last >= 0 && all[last].slot == slot && all[last].gen > s.Gen {
-		return all[:last], nil
+// begin tells which remains, in their order, are wiped ahead of all else, and on which devices a superblock is laid first. Laid over the newest one, if that is greater, it ends it: then nothing else may be left. If not, the newest one outlasts it in the other slot, as does what could not be read there and may be newer; or it is of the generation that is laid, of which the first device's counts, old or new.
+func begin(b *bank.Bank, s super.Super, all []place) (ahead []place, first []int) {
+	slot, devices := slotOf(s.Gen), s.Roster.Members()
+	newest, _, err := super.Read(b)
+	if err != nil {
+		return nil, devices
 	}
-	return nil, slices.DeleteFunc(all, func(at place) bool { return at.slot == slot })
+	if last := len(all) - 1; newest.Gen > s.Gen && slotOf(newest.Gen) == slot {
+		return all[:last], []int{all[last].device}
+	}
+	isNone := func(device int) bool { return !slices.Contains(devices, device) }
+	isUnread := func(device int) bool { return slices.Contains(all, place{device: device, slot: slot}) }
+	members := slices.DeleteFunc(newest.Roster.Members(), isNone)
+	if len(slices.DeleteFunc(slices.Clone(members), isUnread)) == 0 {
+		return nil, devices
+	}
+	return nil, members
 }
 
 // remains tells where superblocks count, the one that layer 6 reads as the last of them, and ahead of these where one may count as soon as the sector can be read again.
 func remains(b *bank.Bank) []place {
-	var all []place
+	all := unread(b)
 	for device := range b.Sizes() {
-		for slot := range api.Slots {
-			if _, err := b.Read(device, slot); err != nil {
-				all = append(all, place{device: device, slot: slot})
-			}
-		}
 		for _, s := range super.On(b, device) {
-			all = append(all, place{device, s.Gen % api.Slots, s.Gen})
+			all = append(all, place{device, slotOf(s.Gen), s.Gen})
 		}
 	}
 	// Of several of one generation layer 6 reads the first device's.
@@ -88,17 +103,4 @@ func remains(b *bank.Bank) []place {
 		return cmp.Or(cmp.Compare(x.gen, y.gen), cmp.Compare(y.device, x.device))
 	})
 	return all
-}
-
-// wipe lets nothing count in sectors, one after the other: each is so for good ahead of the next one. What cannot be read can be written.
-func wipe(b *bank.Bank, places []place) error {
-	for _, at := range places {
-		if err := b.Write(at.device, at.slot, make([]byte, api.Sector)); err != nil {
-			return err
-		}
-		if err := b.Flush(at.device); err != nil {
-			return err
-		}
-	}
-	return nil
 }

@@ -451,3 +451,49 @@ func TestP19_7FormatOpen(t *testing.T) {
 		})
 	}
 }
+
+// TestP19_7FormatElsewhere has devices that are none of the earlier pool's, which came or were left: a Format that is not done leaves nothing there by which the new pool could count later.
+func TestP19_7FormatElsewhere(t *testing.T) {
+	for gen := 1; gen <= 6; gen++ {
+		for device := range 3 {
+			for way := range keeps {
+				was := 0
+				for n := range enough {
+					w := aged(t, 2, gen)
+					if device < 2 && gen > 1 {
+						w.left(device)
+					}
+					_, err := w.b.Add(30)
+					must(t, "Add", err)
+					before := read(w.b)
+					w.b.Arm(n)
+					if _, err := pool.Format(w.b); err == nil {
+						break
+					}
+					next := numbers(n)
+					crashes(w.b, way, &next)
+					if !read(w.b).Same(before) {
+						continue
+					}
+					was++
+					w.open()
+					r := w.p.Info().Roster
+					for at := range w.b.Sizes() {
+						if list := super.On(w.b, at); !slices.Contains(r.Members(), at) && len(list) > 0 {
+							t.Fatalf("a Format behind %d: on the device %d there is %v", n, at, list)
+						}
+					}
+					must(t, "Flush", w.p.Flush())
+					for _, s := range everywhere(w.b) {
+						if s.Gen < before.Gen {
+							t.Fatalf("a Format behind %d: %v counts", n, s)
+						}
+					}
+				}
+				if was == 0 {
+					t.Fatal("the earlier pool is never there")
+				}
+			}
+		}
+	}
+}

@@ -287,11 +287,19 @@ func (l *life) mayRun(c call) bool {
 	return false
 }
 
-// same demands that the volumes are what they must be, and that Info tells the truth.
+// same demands that the volumes are what they must be, that Info tells the truth, and that no superblock counts anywhere that has a device as a member which is Removed.
 func (l *life) same() {
 	l.Helper()
 	l.wantVolumes(l.now)
 	l.wantOwn()
+	r := l.p.Info().Roster
+	for _, s := range everywhere(l.b) {
+		for _, device := range s.Roster.Members() {
+			if r.State(device) == api.Removed {
+				l.Fatalf("the device %d is Removed, and %v counts", device, s)
+			}
+		}
+	}
 }
 
 // wantVolumes demands that the volumes are these.

@@ -24,10 +24,11 @@ func Open(b *bank.Bank) (*Pool, error) {
 		return nil, err
 	}
 	if !slices.Equal(holders, s.Roster.Members()) {
-		if err := super.Write(b, s); err != nil {
+		if err := renew(b, s); err != nil {
 			return nil, err
 		}
 	}
+	p.hidden = hidden(b, s)
 	return p, nil
 }
 
@@ -37,7 +38,7 @@ func load(b *bank.Bank, s super.Super) (*Pool, error) {
 	if err != nil {
 		return nil, err
 	}
-	p := &Pool{bank: b, manager: m, gen: s.Gen}
+	p := &Pool{bank: b, manager: m, last: s}
 	p.follow()
 	return p, nil
 }

@@ -4,11 +4,11 @@ import (
 	"fmt"
 	"reflect"
 	"slices"
+	"strings"
 	"testing"
 
 	"portage/api"
 	"portage/bank"
-	"portage/super"
 )
 
 // harms are what may happen to a device that nobody needs.
@@ -159,13 +159,21 @@ func (l *life) lasts() {
 	l.same()
 }
 
-// TestP19_8Old has what the device held when it was left: superblocks of its own that are older play no part.
+// TestP19_8Old demands that no superblock that counts anywhere has the device as a member, and that its sectors for superblocks stay as they are.
 func TestP19_8Old(t *testing.T) {
 	l := removed(t)
+	for _, s := range everywhere(l.b) {
+		if slices.Contains(s.Roster.Members(), 0) {
+			t.Fatalf("%v counts", s)
+		}
+	}
 	for range 3 {
-		old := super.On(l.b, 0)
-		if len(old) == 0 || slices.ContainsFunc(old, func(s super.Super) bool { return s.Gen >= l.p.Info().Gen }) {
-			t.Fatalf("on the device there is %v", old)
+		for slot := range api.Slots {
+			data, err := l.b.Read(0, slot)
+			must(t, "Read", err)
+			if strings.Trim(string(data), "\x00") != "" {
+				t.Fatalf("in the sector %d there is %x", slot, data)
+			}
 		}
 		l.crash()
 		l.same()
