@@ -78,3 +78,45 @@ func TestP22_3Left(t *testing.T) {
 		wantReport(t, w.b, was)
 	}
 }
+
+// TestP22_3HiddenFormat has a Format cut at each write and flush over a pool that wrote behind its last commit, whose newest superblock can't be read just then: when it can be again there is a sound pool, that one or the new one.
+func TestP22_3HiddenFormat(t *testing.T) {
+	for devices := 1; devices <= 3; devices++ {
+		for way := range keeps {
+			t.Run(fmt.Sprint(devices, " ", keeps[way].name), func(t *testing.T) {
+				for n := range enough {
+					w := made(t, slices.Repeat([]int{70}, devices)...)
+					must(t, "Create", w.p.Create(1, 24))
+					w.write(1, 9, span(1, 4)...)
+					must(t, "Create", w.p.Create(3, 10))
+					gen := w.p.Info().Gen
+					for at := 0; at < 24; at += 8 {
+						w.write(1, at, span(10+at, 8)...)
+					}
+					slots(t, w.b, gen, true)
+					next := numbers(n)
+					w.b.Arm(n)
+					_, err := pool.Format(w.b)
+					crashes(w.b, way, &next)
+					slots(t, w.b, gen, false)
+					r, e := audit.Audit(w.b)
+					must(t, "Audit", e)
+					isEarlier := r.Gen == gen && r.Volumes == 2
+					isNew := r.Volumes+r.Data+r.Pages == 0 && len(r.On) == devices
+					if !audit.Sound(w.b) || !isNew && (err == nil || !isEarlier) {
+						t.Fatalf("cut behind %d: %+v", n, r)
+					}
+					p, e := pool.Open(w.b)
+					must(t, "Open", e)
+					if i := p.Info(); i.Gen != r.Gen || len(i.Volumes) != r.Volumes {
+						t.Fatalf("cut behind %d: %+v, and %+v", n, i, r)
+					}
+					if err == nil {
+						return
+					}
+				}
+				t.Fatal("the call never ends")
+			})
+		}
+	}
+}

@@ -4,11 +4,12 @@ import (
 	"portage/api"
 	"portage/mover"
 	"portage/super"
+	"portage/thin"
 )
 
 // commit makes a change, and all that came ahead of it, durable. As long as there is power, a change that is refused, or has no room to be saved, is wholly taken back.
-func (p *Pool) commit(change func() error) error {
-	return p.powered(func() error {
+func (p *Pool) commit(change func(*thin.Manager) error) error {
+	return p.rehearsed(func(p *Pool) error {
 		if err := p.manager.Begin(); err != nil {
 			return err
 		}
@@ -25,11 +26,8 @@ func (p *Pool) commit(change func() error) error {
 }
 
 // seal makes a change, and lets the next generation count. All that this one names is flushed ahead of it.
-func (p *Pool) seal(change func() error) error {
-	if err := change(); err != nil {
-		return err
-	}
-	if err := p.ahead(p.hasRoom); err != nil {
+func (p *Pool) seal(change func(*thin.Manager) error) error {
+	if err := change(p.manager); err != nil {
 		return err
 	}
 	root, err := p.manager.Save()
@@ -49,9 +47,6 @@ func (p *Pool) seal(change func() error) error {
 
 // count lets a superblock count, in place of the last one.
 func (p *Pool) count(next super.Super) error {
-	if err := p.ahead(always); err != nil {
-		return err
-	}
 	if err := p.bank.Flush(next.Roster.Members()...); err != nil {
 		return err
 	}

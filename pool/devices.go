@@ -4,6 +4,7 @@ import (
 	"portage/api"
 	"portage/mover"
 	"portage/roster"
+	"portage/thin"
 )
 
 // Add lets the pool have one device more, the bank's next one.
@@ -49,12 +50,9 @@ func (p *Pool) Cancel() error {
 // Move does one step of leaving a device, and tells what it did.
 func (p *Pool) Move() (int, error) {
 	did := 0
-	err := p.powered(func() (err error) {
+	err := p.rehearsed(func(p *Pool) (err error) {
 		if p.mover == nil {
 			return api.ErrIdle
-		}
-		if err := p.ahead(p.moves); err != nil {
-			return err
 		}
 		if did, err = p.mover.Step(); err != nil {
 			return err
@@ -88,12 +86,12 @@ func (p *Pool) goOn(did int) error {
 
 // turn commits the roster that next makes of the one that there is.
 func (p *Pool) turn(next func(roster.Roster) (roster.Roster, error)) error {
-	return p.commit(func() error {
-		r, err := next(p.roster())
+	return p.commit(func(m *thin.Manager) error {
+		r, err := next(m.Space().Roster())
 		if err != nil {
 			return err
 		}
-		return p.manager.Turn(r)
+		return m.Turn(r)
 	})
 }
 

@@ -19,10 +19,15 @@ import (
 type stand struct {
 	sectors string
 	may     []super.Super
+	// cuts is how many Formats were cut. Where the last one left a pool of a great generation, most is the one from which on no call is made any more.
+	cuts, most int
 }
 
 // key tells stands apart.
-func (x stand) key() string { return x.sectors + fmt.Sprint(x.may) }
+func (x stand) key() string { return x.sectors + fmt.Sprint(x.may, x.cuts, x.most) }
+
+// burnt is more than a call, or some of them one behind the other, write and flush.
+const burnt = 200
 
 // standing is what stands in the sectors for superblocks, all of which can be read.
 func standing(t *testing.T, b *bank.Bank) string {
@@ -51,6 +56,8 @@ func (x stand) bank(t *testing.T, bad slots) *bank.Bank {
 		}
 		must(t, "Flush", b.Flush(device))
 	}
+	// It is as far as a bank on which that many were made.
+	must(t, "Flush", b.Flush(make([]int, burnt*x.cuts)...))
 	set(t, b, bad, true)
 	return b
 }
@@ -73,16 +80,16 @@ type every struct {
 	// open are the stands that were not gone on from, of those that were seen.
 	open []stand
 	seen map[string]struct{}
-	// formats says that Formats are made, too.
-	formats bool
+	// formats is how many Formats may be cut, one behind the other. One more is made, and not gone on from.
+	formats int
 	// What was met: devices that are Removed, calls behind which counts what could not be read, and Formats that were cut.
 	removed, hidden, cut int
 }
 
-// meet keeps a stand in mind, unless it was seen.
-func (v *every) meet(b *bank.Bank, may ...super.Super) {
+// meet keeps in mind what came of a stand, unless it was seen.
+func (v *every) meet(x stand, b *bank.Bank, may ...super.Super) {
 	slices.SortStableFunc(may, func(a, b super.Super) int { return cmp.Compare(a.Gen, b.Gen) })
-	x := stand{standing(v.T, b), may}
+	x.sectors, x.may = standing(v.T, b), may
 	if _, has := v.seen[x.key()]; !has {
 		v.seen[x.key()] = struct{}{}
 		v.open = append(v.open, x)
@@ -193,12 +200,9 @@ func (y *play) wantClean(r roster.Roster) {
 	}
 }
 
-// wantUnused demands that no superblock counts on a device that the pool says is Removed, unless those of the members could not be read in the slot of a new pool.
+// wantUnused demands that no superblock counts on a device that the pool says is Removed.
 func (y *play) wantUnused(r roster.Roster) {
 	y.Helper()
-	if !slices.ContainsFunc(r.Members(), func(device int) bool { return !y.bad.has(device, 1) }) {
-		return
-	}
 	for device, e := range r.List {
 		if list := super.On(y.b, device); e.State == api.Removed && len(list) > 0 {
 			y.fail("the device %d is Removed, and %v count there", device, list)
@@ -216,6 +220,7 @@ func opens(y *play) (err error) {
 
 // from opens the pool of a stand while sectors are bad, and makes each call on it.
 func (v *every) from(x stand, bad slots) {
+	v.formatted(x, bad)
 	b := x.bank(v.T, bad)
 	s, _, err := super.Read(b)
 	if errors.Is(err, api.ErrNone) {
@@ -226,27 +231,26 @@ func (v *every) from(x stand, bad slots) {
 	opened := x
 	v.plays(x, bad, "Open", nothing, opens, func(y *play) {
 		y.newest(x.may)
-		v.meet(y.b, x.may...)
+		v.meet(x, y.b, x.may...)
 	}, func(y *play) {
-		y.wantClean(y.p.Info().Roster)
+		if x.cuts == 0 {
+			y.wantClean(y.p.Info().Roster)
+		}
 		may := x.may
 		if top := y.newest(may); top.Same(superOf(y.p)) {
 			may = []super.Super{top}
 		}
-		v.meet(y.b, may...)
-		opened = stand{standing(v.T, y.b), may}
+		v.meet(x, y.b, may...)
+		opened.sectors, opened.may = standing(v.T, y.b), may
 	})
-	if !isNewest {
+	if !isNewest || x.cuts > 0 && !isOne(s, x.may) {
 		// What was acknowledged can't be read on any device: behind a call nothing is promised.
 		return
 	}
 	if !isOne(s, x.may) {
 		v.Fatalf("%b is bad: %v is read, which may be %v", bad, s, x.may)
 	}
-	if v.formats {
-		v.formatted(opened, bad)
-	}
-	if s.Gen >= v.gens {
+	if s.Gen >= max(v.gens, x.most) || v.gens <= s.Gen && s.Gen < 1<<59 {
 		return
 	}
 	for name, call := range everyCall(len(b.Sizes())) {
@@ -291,20 +295,20 @@ func (v *every) called(x stand, bad slots, s super.Super, name string, call func
 		case !isOne(top, may):
 			v.hidden++
 			y.wantWiped()
-			v.meet(y.b, x.may...)
+			v.meet(x, y.b, x.may...)
 		case isLast && top.Same(want):
-			v.meet(y.b, half, want)
+			v.meet(x, y.b, half, want)
 		case isLast:
-			v.meet(y.b, s, half)
+			v.meet(x, y.b, s, half)
 		case top.Same(want):
-			v.meet(y.b, s, want)
+			v.meet(x, y.b, s, want)
 		default:
-			v.meet(y.b, s)
+			v.meet(x, y.b, s)
 		}
 	}, func(y *play) {
 		y.wantClean(want.Roster)
 		y.newest([]super.Super{want})
-		v.meet(y.b, want)
+		v.meet(x, y.b, want)
 	})
 }
 
@@ -319,15 +323,32 @@ func (y *play) wantWiped() {
 	}
 }
 
-// formatted makes a Format.
+// formatted makes a Format, as long as not all of them are cut. It is gone on from where sectors were bad, and no device was Removed: what any other sectors that are bad hide behind that is not the new pool alone.
 func (v *every) formatted(x stand, bad slots) {
+	if x.cuts > v.formats {
+		return
+	}
 	fresh := anew(x.bank(v.T, 0)).Super
 	v.plays(x, bad, "Format", nothing, func(y *play) error {
 		_, err := pool.Format(y.b)
 		return err
 	}, func(y *play) {
-		y.wantUnused(y.newest(append(slices.Clone(x.may), fresh)).Roster)
+		may := append(slices.Clone(x.may), fresh)
+		if top := read(y.b); !isOne(top, may) && isNew(top, y.b) {
+			may = append(may, top)
+		}
+		y.wantUnused(y.newest(may).Roster)
 		v.cut++
+		isLeft := slices.ContainsFunc(x.may, func(s super.Super) bool { return len(s.Roster.Members()) < len(s.Roster.List) })
+		if x.cuts == v.formats || bad == 0 || isLeft {
+			return
+		}
+		next := x
+		next.cuts++
+		if top := may[len(may)-1]; top.Gen > 1<<59 {
+			next.most = top.Gen + 1
+		}
+		v.meet(next, y.b, may...)
 	}, func(y *play) {
 		if list := everywhere(y.b); len(list) != len(y.b.Sizes()) || slices.ContainsFunc(list, func(s super.Super) bool { return !s.Same(fresh) }) {
 			y.fail("the pool is not the new one alone")
@@ -353,10 +374,10 @@ func some(devices int) []slots {
 }
 
 // goes goes on from a pool in all ways, till a generation.
-func goes(w *world, bads []slots, gens int, formats bool) *every {
+func goes(w *world, bads []slots, gens, formats int) *every {
 	w.Helper()
 	v := &every{T: w.T, bads: bads, gens: gens, formats: formats, seen: map[string]struct{}{}}
-	v.meet(w.b, superOf(w.p))
+	v.meet(stand{}, w.b, superOf(w.p))
 	v.all()
 	return v
 }
@@ -371,10 +392,32 @@ func TestP19_7Every(t *testing.T) {
 				_, err := w.b.Add(3)
 				must(t, "Add", err)
 			}
-			if v := goes(w, each(2), 4, true); v.removed < 100 || v.hidden < 100 || v.cut < 100 {
+			if v := goes(w, each(2), 4, 0); v.removed < 100 || v.hidden < 100 || v.cut < 100 {
 				t.Fatalf("of %d stands %d had a device that was Removed; behind %d calls counts what could not be read; %d Formats were cut", len(v.seen), v.removed, v.hidden, v.cut)
 			}
 		})
+	}
+}
+
+// TestP19_7EveryFormat does so for one generation and the next, behind Formats, too, that were cut while sectors were bad.
+func TestP19_7EveryFormat(t *testing.T) {
+	for first := 1; first <= 2; first++ {
+		for gen := 1; gen <= 2; gen++ {
+			t.Run(fmt.Sprint(first, gen), func(t *testing.T) {
+				t.Parallel()
+				w := made(t, slices.Repeat([]int{3}, first)...)
+				for w.gen() < gen {
+					must(t, "Flush", w.p.Flush())
+				}
+				for range 2 - first {
+					_, err := w.b.Add(3)
+					must(t, "Add", err)
+				}
+				if v := goes(w, []slots{0, 0b0001, 0b0101, 0b1010, 0b1111}, gen+1, 1); v.hidden < 100 || v.cut < 1000 {
+					t.Fatalf("of %d stands %d calls left what could not be read; %d Formats were cut", len(v.seen), v.hidden, v.cut)
+				}
+			})
+		}
 	}
 }
 
@@ -389,7 +432,7 @@ func TestP19_8Every(t *testing.T) {
 					w.left(other)
 				}
 				must(t, "Evacuate", w.p.Evacuate(device))
-				if v := goes(w, some(3), w.gen()+1, false); v.removed < 100 || v.hidden < 10 {
+				if v := goes(w, some(3), w.gen()+1, -1); v.removed < 100 || v.hidden < 10 {
 					t.Fatalf("of %d stands %d had a device that was Removed; behind %d calls counts what could not be read", len(v.seen), v.removed, v.hidden)
 				}
 			})

@@ -435,7 +435,7 @@ func (h *hid) format(own super.Super, m, way int, wrote bool) bool {
 	h.wantSound(now.Gen)
 	_, got := sees(h.T, h.b)
 	switch {
-	case now.Same(fresh.Super):
+	case now.Same(fresh.Super), err != nil && isNew(now, h.b):
 		if len(got.Volumes) > 0 {
 			h.Fatalf("%s: the new pool has %v", h.name, got.Volumes)
 		}
@@ -452,7 +452,7 @@ func (h *hid) format(own super.Super, m, way int, wrote bool) bool {
 func TestP19_7HiddenFormat(t *testing.T) {
 	s := shot{-1, func(*life) {}, creates(4, 7)}
 	for i, bad := range some(3) {
-		for kind := range 4 {
+		for kind := (i + i/3) % 2; kind < 4; kind += 2 {
 			t.Run(fmt.Sprintf("%b %d", bad, kind), func(t *testing.T) {
 				t.Parallel()
 				wrote, isEarly := kind%2 == 1, kind > 1
@@ -527,6 +527,26 @@ func TestP19_7HiddenDetached(t *testing.T) {
 	w.create(1, 9, 1)
 	w.crash()
 	w.wantGen(2)
+}
+
+// TestP19_7HiddenGone has a member detached behind an opening that knows nothing of the last commit: a call that is refused for that writes nothing on the others, either.
+func TestP19_7HiddenGone(t *testing.T) {
+	for device := range 3 {
+		l := scene(t, -1)
+		l.run(flushes())
+		bad := l.last()
+		must(t, "Detach", l.b.Detach(device))
+		bad &^= 3 << (device * api.Slots)
+		was := all(t, l.b, bad)
+		for _, c := range []call{creates(7, 3), flushes()} {
+			if code, _ := fault.CodeOf(c.do(l.p)); code != api.ErrGone {
+				t.Fatalf("%s: error %d", c.name, code)
+			}
+		}
+		if !slices.EqualFunc(all(t, l.b, bad), was, slices.Equal) {
+			t.Fatal("something was written")
+		}
+	}
 }
 
 // harmUnread makes a call in which the power may go, and opens the pool behind that while sectors are bad that leave what was durable to be read. It tells which are bad still.

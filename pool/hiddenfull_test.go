@@ -45,7 +45,7 @@ func paged(t *testing.T, seed int) *life {
 	return l
 }
 
-// full has the last commit hidden from an opening, and makes a call behind that without any room. It tells whether the call was refused: then nothing was written, and the commit is there when it can be read again.
+// full has the last commit hidden from an opening, and makes a call behind that without any room. It tells whether the call was refused. Where nothing was written the commit is there when it can be read again, and so it is if the call was refused.
 func (l *life) full(c call, way int) bool {
 	l.Helper()
 	gen := l.gen
@@ -71,9 +71,10 @@ func (l *life) full(c call, way int) bool {
 	}
 	if wrote {
 		l.recover(durable)
-	} else {
-		l.same()
+		return isRefused
 	}
+	l.now = durable
+	l.same()
 	return isRefused
 }
 

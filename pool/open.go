@@ -28,7 +28,9 @@ func Open(b *bank.Bank) (*Pool, error) {
 			return nil, err
 		}
 	}
-	p.hidden = hidden(b, s)
+	if err := p.hide(); err != nil {
+		return nil, err
+	}
 	return p, nil
 }
 

@@ -92,7 +92,7 @@ func (p *Pool) release(next roster.Roster) error {
 	return super.Write(p.bank, super.Super{Gen: p.last.Gen, Root: p.last.Root, Roster: next})
 }
 
-// without tells those of the devices that are none of the others.
-func without(devices, others []int) []int {
-	return slices.DeleteFunc(devices, func(device int) bool { return slices.Contains(others, device) })
+// without tells those of a list that are none of the others.
+func without[T comparable](list, others []T) []T {
+	return slices.DeleteFunc(slices.Clone(list), func(one T) bool { return slices.Contains(others, one) })
 }
